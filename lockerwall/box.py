@@ -2,14 +2,23 @@
 
 
 class Told:
-    """What one deed did: its report, the kinds of faults, and the moments whose rules were carried out."""
+    """What one deed did.
+
+    That is its report, whether a parcel was laid into the box, the kinds of faults, and the moments whose rules were
+    carried out.
+    """
 
     def __init__(self):
         self.letters = []
         self.opened = False
         self.got = []
+        self.lays = False
         self.wrongs = []
         self.moments = []
+
+    def report(self):
+        """Return the letters, whether the box was opened, and what was taken."""
+        return (self.letters, self.opened, self.got)
 
 
 class Box:
@@ -42,6 +51,10 @@ class Box:
         twin.served = dict(self.served)
         return twin
 
+    def stands(self):
+        """Return how the box stands: the door, what lies inside, taken for what, valid codes, days."""
+        return (self.ajar, list(self.inside), self.taken_for, sorted(self.valid), self.age)
+
     def bring(self, book, parcel, lays, shuts):
         """Let a courier come with this parcel, whose number is above those of all earlier ones."""
         told = Told()
@@ -56,6 +69,7 @@ class Box:
             if self.inside:
                 told.wrongs.append("two")
             self.inside.append(parcel)
+            told.lays = True
         self._go_away(book, shuts, ("laid", "left"), told)
         return told
 

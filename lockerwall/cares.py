@@ -27,3 +27,13 @@ def allowed_codes(care, parcel, served):
     if served and "twice" not in care:
         return []
     return [("code", parcel, takes, shuts) for takes in ways(care, "twice") for shuts in ways(care, "ajar")]
+
+
+def allowed_others(care):
+    """Return the other deeds that a care allows, but for the day, which all of them allow."""
+    deeds = []
+    if "stranger" in care:
+        deeds.append(("pass",))
+    if "power" in care:
+        deeds.append(("power",))
+    return deeds

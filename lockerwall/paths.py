@@ -5,14 +5,13 @@ can do nothing any more unless it is the last one. Those that are left differ in
 whom they are the same can do the same: one of them is enough. So there are few ways to stand, whatever the length.
 """
 
-from heapq import heappop, heappush
-
 from lockerwall.box import Box, do_deed
-from lockerwall.cares import allowed_brings, allowed_codes
+from lockerwall.cares import allowed_brings, allowed_codes, allowed_others
+from lockerwall.queues import ShortestFirst
 
 
 class Spot:
-    """A clean list of deeds, the number of brings in it, and the box behind it."""
+    """A list of deeds, the number of brings in it, and the box behind it."""
 
     def __init__(self, deeds, brought, behind):
         self.deeds = deeds
@@ -22,26 +21,16 @@ class Spot:
 
 
 class Move:
-    """A step from a spot, which is a list of deeds: what was told of its last deed, and the box behind it."""
+    """A step from one spot to another, and what was told of its last deed."""
 
-    def __init__(self, spot, step, told, behind):
+    def __init__(self, spot, told, end):
         self.spot = spot
-        self.step = step
         self.told = told
-        self.behind = behind
-
-    def whole(self):
-        """Return the deeds of the spot and of the step."""
-        return self.spot.deeds + self.step
+        self.end = end
 
     def is_clean(self):
         """Return whether nothing went wrong."""
         return not self.told.wrongs
-
-    def end(self):
-        """Return the spot to which the step leads; a bring is a step of its own."""
-        brought = self.spot.brought + 1 if self.step[0][0] == "bring" else self.spot.brought
-        return Spot(self.whole(), brought, self.behind)
 
 
 def traits_of(box, parcel):
@@ -67,34 +56,45 @@ def outline_of(box):
 
 
 def steps_from(book, care, box):
-    """Return the steps that a care allows and that may do something; each is a list of deeds.
-
-    A day does nothing unless the book's number is reached by it. So in a shortest list either no day passes behind a
-    bring, or as many as that number, and these may as well pass side by side: they are one step.
-    """
-    deeds = []
+    """Return the steps that a care allows and that may do something; each is a list of deeds."""
+    deeds = allowed_others(care)
     if box.taken_for == "free":
         deeds.extend(allowed_brings(care))
     people = people_of(box)
     for parcel in people.values():
         deeds.extend(allowed_codes(care, parcel, parcel in box.served))
-    if "stranger" in care:
-        deeds.append(("pass",))
-    if "power" in care:
-        deeds.append(("power",))
-    steps = [[deed] for deed in deeds]
-    if box.age is not None and box.age < book.days():
-        steps.append([("day",)] * (book.days() - box.age))
-    return steps
+    return [[deed] for deed in deeds] + day_steps(box.age, [book.days()])
+
+
+def day_steps(age, numbers):
+    """Return a list with the step of all days up to the next one of some books' numbers, or an empty list.
+
+    A day does nothing unless such a number is reached by it. So in a shortest list as many days pass behind a bring
+    as one of these numbers, or none, and those up to the next number may as well pass side by side: they are one step.
+    """
+    if age is None:
+        return []
+    ahead = [number - age for number in numbers if number > age]
+    if not ahead:
+        return []
+    return [[("day",)] * min(ahead)]
 
 
 def moved(book, spot, step):
-    """Return the move that a step from a spot makes."""
+    """Return the move that a step from a spot makes; a bring is a step of its own."""
     box = spot.behind.copied()
+    brought = spot.brought
+    if step[0][0] == "bring":
+        brought += 1
     told = None
     for deed in step:
-        told = do_deed(book, box, deed, spot.brought + 1)
-    return Move(spot, step, told, box)
+        told = do_deed(book, box, deed, brought)
+    return Move(spot, told, Spot(spot.deeds + step, brought, box))
+
+
+def first_spot():
+    """Return the spot of the list without deeds."""
+    return Spot([], 0, Box())
 
 
 def moves(book, care):
@@ -103,12 +103,11 @@ def moves(book, care):
     Only the days are a step of several deeds, and they do nothing wrong. So of all moves with a fault, or with a
     fault of one kind, the first is the shortest.
     """
-    spots = [Spot([], 0, Box())]
-    queue = [(0, 0)]
+    queue = ShortestFirst()
+    queue.put(first_spot())
     seen = {}
-    while queue:
-        _, at = heappop(queue)
-        spot = spots[at]
+    while queue.has_any():
+        spot = queue.take()
         if spot.outline in seen:
             continue
         seen[spot.outline] = True
@@ -116,5 +115,4 @@ def moves(book, care):
             move = moved(book, spot, step)
             yield move
             if move.is_clean():
-                spots.append(move.end())
-                heappush(queue, (len(spots[-1].deeds), len(spots) - 1))
+                queue.put(move.end)

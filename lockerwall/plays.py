@@ -20,7 +20,7 @@ def play(book, deeds):
     """Return the report of each deed: the letters, whether the box was opened, and what was taken."""
     check_playable(deeds)
     _, story = played(book, deeds)
-    return [(told.letters, told.opened, told.got) for told in story]
+    return [told.report() for told in story]
 
 
 def faults(book, deeds):
@@ -34,4 +34,4 @@ def boxes(book, deeds):
     """Return how the box stands behind the deeds: the door, what lies inside, taken for what, valid codes, days."""
     check_playable(deeds)
     box, _ = played(book, deeds)
-    return (box.ajar, list(box.inside), box.taken_for, sorted(box.valid), box.age)
+    return box.stands()

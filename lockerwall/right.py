@@ -17,7 +17,7 @@ def first_fault(book, care):
     check_care(care)
     for move in moves(book, care):
         if not move.is_clean():
-            return move.whole()
+            return move.end.deeds
     return None
 
 
@@ -33,7 +33,7 @@ def first_of(book, care, kind):
         raise NoKind("this is not a kind of fault")
     for move in moves(book, care):
         if kind in move.told.wrongs:
-            return move.whole()
+            return move.end.deeds
     return None
 
 

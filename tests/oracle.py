@@ -4,8 +4,6 @@ A state is a dict in plain words; all lists of deeds are tried out one after ano
 which parcels or days matter.
 """
 
-import copy
-
 MOMENTS = ("given", "laid", "left", "opened", "taken", "gone", "late", "power")
 ACTIONS = ("free", "full", "off", "code", "void", "look", "lock")
 CARES = ("ajar", "bare", "power", "stranger", "twice")
@@ -15,6 +13,10 @@ KINDS = ("two", "wrong", "empty", "refused")
 def start():
     return {"open": False, "in": set(), "for": "free", "valid": set(), "days": None,
             "last": None, "sent": set(), "took": set(), "n": 0}
+
+
+def copied(state):
+    return {name: set(value) if isinstance(value, set) else value for name, value in state.items()}
 
 
 def rule_at(book, state, moment, letters, moments):
@@ -136,6 +138,18 @@ def frozen(state):
     return tuple(tuple(sorted(value)) if isinstance(value, set) else value for value in state.values())
 
 
+def clean_steps(book, care, state):
+    """Yield each deed that a care allows in a state and that makes nothing go wrong, with its report, the moments
+    whose rules are carried out, and the state behind it.
+    """
+    for deed in deeds_at(state):
+        if allows(care, state, deed):
+            after = copied(state)
+            report, kinds, moments = deed_at(book, after, deed)
+            if not kinds:
+                yield deed, report, moments, after
+
+
 def firsts(book, care, most, room=10 ** 9):
     """Try all lists of at most so many deeds; return the least number with a fault of each kind at the last deed
     and none before, the moments of the clean lists, and the number of deeds up to which all lists were tried.
@@ -147,19 +161,88 @@ def firsts(book, care, most, room=10 ** 9):
         further = {}
         for state in states.values():
             for deed in deeds_at(state):
-                if not allows(care, state, deed):
-                    continue
-                after = copy.deepcopy(state)
-                _, kinds, moments = deed_at(book, after, deed)
-                for kind in kinds:
-                    least.setdefault(kind, many)
-                if not kinds:
-                    carried.update(moments)
-                    key = frozen(after)
-                    if key not in seen:
-                        seen.add(key)
-                        further[key] = after
+                if allows(care, state, deed):
+                    for kind in deed_at(book, copied(state), deed)[1]:
+                        least.setdefault(kind, many)
+            for _, _, moments, after in clean_steps(book, care, state):
+                carried.update(moments)
+                if frozen(after) not in seen:
+                    seen.add(frozen(after))
+                    further[frozen(after)] = after
         states = further
         if len(seen) > room:
             return least, carried, many
     return least, carried, most
+
+
+def takes_own(deed, report, after):
+    return deed[0] == "code" and deed[1] in report[2]
+
+
+def lays(deed, report, after):
+    return deed[0] == "bring" and after["n"] in after["in"]
+
+
+def leads_to(wanted, book, care, state, room):
+    """Return whether some deeds behind a state make a clean list with a wanted last deed; None if so many states
+    were tried and it is still open.
+    """
+    states, seen = [state], {frozen(state)}
+    while states:
+        further = []
+        for one in states:
+            for deed, report, _, after in clean_steps(book, care, one):
+                if wanted(deed, report, after):
+                    return True
+                if frozen(after) not in seen:
+                    seen.add(frozen(after))
+                    further.append(after)
+        if len(seen) > room:
+            return None
+        states = further
+    return False
+
+
+def first_hopeless(wanted, book, care, most, room):
+    """Try all clean lists of at most so many deeds; return the least number behind which no deeds lead to a wanted
+    one, or None, and the number of deeds up to which all lists were tried. As hopeless counts, too, where so many
+    states were tried in vain.
+    """
+    states, seen = [start()], {frozen(start())}
+    for many in range(most + 1):
+        further = []
+        for state in states:
+            if wanted is lays or state["in"]:
+                if not leads_to(wanted, book, care, state, room):
+                    return many, many
+            for _, _, _, after in clean_steps(book, care, state):
+                if frozen(after) not in seen:
+                    seen.add(frozen(after))
+                    further.append(after)
+        if len(seen) > room:
+            return None, many
+        states = further
+    return None, most
+
+
+def first_apart(book, other, care, most, room):
+    """Try all lists of at most so many deeds; return the least number with unlike reports, or None, and the number
+    of deeds up to which all lists were tried.
+    """
+    pairs, seen = [(start(), start())], set()
+    for many in range(1, most + 1):
+        further = []
+        for one, two in pairs:
+            for deed in deeds_at(one):
+                if allows(care, one, deed) and allows(care, two, deed):
+                    after = copied(one), copied(two)
+                    if deed_at(book, after[0], deed)[0] != deed_at(other, after[1], deed)[0]:
+                        return many, many
+                    key = frozen(after[0]), frozen(after[1])
+                    if key not in seen:
+                        seen.add(key)
+                        further.append(after)
+        if len(seen) > room:
+            return None, many
+        pairs = further
+    return None, most

@@ -9,7 +9,7 @@ PACKAGE = pathlib.Path(__file__).resolve().parent.parent / "lockerwall"
 FILES = sorted(path for path in PACKAGE.rglob("*") if "__pycache__" not in path.parts)
 LIBRARY = {("heapq", "heappush"), ("heapq", "heappop"), ("itertools", "combinations")}
 BUILTINS = {"len", "range", "enumerate", "zip", "min", "max", "sum", "abs", "sorted", "reversed", "int", "str", "bool",
-            "list", "tuple", "dict", "set", "isinstance", "any", "all", "ValueError", "super"}
+            "list", "tuple", "dict", "set", "isinstance", "any", "all", "ValueError", "super", "property"}
 BARRED = r"\b(type|typing|enum|Enum|Flag|Protocol|ABC|open|input|law|mro|elements|global|eval|exec|_wall\w*)\b"
 
 
@@ -33,7 +33,8 @@ class LanguageTest(unittest.TestCase):
             for node in ast.walk(ast.parse(path.read_text())):
                 if isinstance(node, ast.FunctionDef):
                     self.assertLessEqual(node.end_lineno - node.lineno + 1, 40, (path, node.name))
-                    self.assertEqual(node.decorator_list, [])
+                    for decorator in node.decorator_list:
+                        self.assertIn(ast.unparse(decorator), ("property", node.name + ".setter"))
                     self.assertIsNotNone(ast.get_docstring(node) or node.name.startswith("__"), (path, node.name))
 
     def test_imports(self):
