@@ -8,7 +8,7 @@ for both boxes to stand, whatever the length of the list.
 
 from lockerwall.box import Box, do_deed
 from lockerwall.cares import allowed_brings, allowed_codes, allowed_others, check_care
-from lockerwall.paths import day_steps
+from lockerwall.paths import brought_with, day_steps
 from lockerwall.queues import ShortestFirst
 
 
@@ -55,7 +55,7 @@ def people_of_both(care, pair):
     people = {}
     for parcel in range(1, pair.brought + 1):
         kind = kind_of(care, pair, parcel)
-        if any(kind[1:]):
+        if True in kind[1:]:
             people.setdefault(kind, []).append(parcel)
     return people
 
@@ -86,11 +86,9 @@ def steps_of_both(care, pair, people, numbers):
 
 
 def led(book, other, pair, step):
-    """Return the pair to which a step leads; a bring is a step of its own, and days ahead of the last do nothing."""
+    """Return the pair to which a step leads; only its last deed may tell something, as all days ahead do nothing."""
     one, two = pair.one.copied(), pair.two.copied()
-    brought = pair.brought
-    if step[0][0] == "bring":
-        brought += 1
+    brought = brought_with(pair.brought, step)
     apart = False
     for deed in step:
         told = do_deed(book, one, deed, brought)

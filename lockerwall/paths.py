@@ -80,12 +80,15 @@ def day_steps(age, numbers):
     return [[("day",)] * min(ahead)]
 
 
+def brought_with(brought, step):
+    """Return the number of brings behind a step; a bring is a step of its own."""
+    return brought + 1 if step[0][0] == "bring" else brought
+
+
 def moved(book, spot, step):
-    """Return the move that a step from a spot makes; a bring is a step of its own."""
+    """Return the move that a step from a spot makes."""
     box = spot.behind.copied()
-    brought = spot.brought
-    if step[0][0] == "bring":
-        brought += 1
+    brought = brought_with(spot.brought, step)
     told = None
     for deed in step:
         told = do_deed(book, box, deed, brought)

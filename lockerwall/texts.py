@@ -13,8 +13,8 @@ SHUTS = {"shut": True, "ajar": False}
 def book_text(book):
     """Return the text of a book."""
     lines = ["days " + str(book.days())]
-    for moment in MOMENTS:
-        lines.append(" ".join([moment + ":", *book.rule(moment)]))
+    for moment, rule in zip(MOMENTS, book.rules()):
+        lines.append(" ".join([moment + ":", *rule]))
     return "\n".join(lines)
 
 

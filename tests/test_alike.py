@@ -137,6 +137,23 @@ class UnlikeTest(Apart):
         self.check(book, other, ("bare",), 2)
         self.assertEqual(sorted(told_apart(book, other, ())[2:]), [code(1), code(2)])
 
+    def test_what_has_to_be_told_of_parcels(self):
+        # Of each of these the slow telling, too, finds the same number of deeds.
+        # Who is served does not come again; so the last parcel has to be one that was never laid in.
+        power = ("code", "look")
+        self.check(Book(1, taken=("void",), power=power), Book(1, taken=("full", "void"), power=power), ("bare", "power"), 8)
+        # The one who comes has to be another one than the last.
+        book = Book(1, given=("look",), laid=("code",), opened=("code",), late=("free",))
+        self.check(book, book.with_rule("opened", ("void", "code")), (), 6)
+        # A parcel lies in one box only.
+        self.check(Book(1, given=("off",), late=("look",)), Book(1, given=("off", "lock")), ("bare",), 3)
+        # A code is valid at one box only.
+        book = Book(1, laid=("look",), late=("free",), power=("code",))
+        self.check(book, book.with_rule("opened", ("void",)), ("bare", "power"), 6)
+        # Somebody took the parcel, at both boxes.
+        book = Book(1, laid=("full",), left=("look",))
+        self.check(book, book.with_rule("late", ("look",)), ("ajar", "stranger"), 4)
+
     def test_a_list_with_faults_counts(self):
         self.check(SIMPLE.with_rule("given", ()), Book(2, laid=("code",), taken=("free",), late=("off",)), (), 4)
         self.check(Book(1, laid=("full", "code", "free")), Book(1, laid=("full", "code", "free"), taken=("void",)), (), 4)

@@ -174,6 +174,16 @@ class CarelessTest(LastingTest):
         book = Book(1, given=("full",), left=("code", "void"), laid=("code", "void"))
         self.check(book, ("ajar", "stranger"), 1, 1)
 
+    def test_lists_that_are_long(self):
+        # Persons differ by whether they have taken their parcel: who has finds the box empty, and nothing goes wrong.
+        book = Book(1, laid=("look",), opened=("free",), late=("full", "code", "look"))
+        self.check(book, ("bare", "twice"), 6, 6)
+        self.check(Book(1, laid=("full",), opened=("off",), late=("code", "free")), ("bare", "twice"), 7, 3)
+        book = Book(1, laid=("full", "code"), opened=("look",), taken=("void",), late=("code",), power=("void",))
+        self.check(book, ("bare", "power", "twice"), 3, 1)
+        self.check(Book(1, laid=("look", "code"), power=("free",)), ("bare", "power"), None, None)
+        self.check(Book(1, late=("void",), power=("look", "code")), ("power",), None, None)
+
 
 if __name__ == "__main__":
     unittest.main()

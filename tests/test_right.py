@@ -222,6 +222,18 @@ class NewListsTest(Checked):
         book = GOOD.with_days(30).with_rule("late", ("free",))
         self.assertEqual(faults(book, first_fault(book, ())), [("two", 31)])
 
+    def test_who_was_served_finds_nothing_wrong_with_an_empty_box(self):
+        # The last parcel may be one that was taken, or one that was never laid in; its code is sent in either case.
+        for laid, taken in ((("look", "code"), ("void",)), (("look",), ())):
+            book = Book(1, laid=laid, taken=taken, power=("code", "full"))
+            self.check_first(book, ("bare", "power"), 4, "empty")
+            self.assertIsNone(first_of(book, ("power",), "empty"))
+        book = Book(1, laid=("full", "code"), opened=("look",))
+        self.check_list(book, ("bare", "twice"), first_of(book, ("bare", "twice"), "wrong"), 5, "wrong")
+        book = Book(1, laid=("full",), left=("void",), late=("code", "free"))
+        for kind, many in (("two", 2), ("empty", 3), ("wrong", 4), ("refused", 4)):
+            self.check_list(book, ("ajar", "bare"), first_of(book, ("ajar", "bare"), kind), many, kind)
+
     def test_arguments_stay_as_they_were(self):
         book = GOOD.with_days(5)
         first_fault(book, ALL_CARE)
